@@ -1,1 +1,1 @@
-"""Build logs: reading them, their faults, and what in a log a file rests on."""
+"""Build logs: reading them, their faults, what in a log a file rests on, and the comparison of two logs."""

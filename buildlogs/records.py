@@ -25,3 +25,11 @@ class Log:
     def __init__(self, records, total):
         self.records = records
         self.total = total
+
+
+# None if there is none. In a sound log a name is that of one record at most.
+def find_record(records, name):
+    for record in records:
+        if record.name == name:
+            return record
+    return None

@@ -8,3 +8,4 @@ LIMIT = -5
 FAULTY = -6
 NAME = -7
 ABSENT = -8
+ALIKE = -9

@@ -46,8 +46,9 @@ def is_name(text):
     return word_kind(text) == "name"
 
 
-def in_lines(names):
-    lines = []
+# How many they are, then each with a byte 10 behind it: the form in which names are answered.
+def counted_lines(names):
+    lines = [len(names)]
     for name in names:
         lines.extend(name)
         lines.append(LINE_FEED)

@@ -10,18 +10,25 @@ LIMIT = [-5]
 FAULTY = [-6]
 NAME = [-7]
 ABSENT = [-8]
+ALIKE = [-9]
 
 EMPTY = "end 0;"
 HUGE = 10 ** 18
 
-# The document's example.
+# The document's example: its log 0, its log 1, and what log 1 would be "if in log 1 s were 1 and o 6".
 EXAMPLE = (
     "run c { tool cc; in s 1; out o 5; exit 0; }"
     "run l { tool ld; in o 5; out p 9; exit 0; }"
     "end 2;"
 )
+OTHER_EXAMPLE = (
+    "run c { tool cc; in s 2; out o 6; exit 0; }"
+    "run l { tool ld; in o 6; out p 8; exit 0; }"
+    "end 2;"
+)
+UNSTEADY_EXAMPLE = OTHER_EXAMPLE.replace("s 2", "s 1")
 
-# It has two faults (5 of a, 6): stats and plain answer it, made and rests don't.
+# It has two faults (5 of a, 6): stats and plain answer it, the calls from made on don't.
 FAULTY_LOG = "run a { tool t; in x 1; exit 0; } run b { tool t; out x 1; exit 0; } end 7;"
 
 
@@ -62,6 +69,40 @@ def rests(k, file):
     return [6, k] + row(file)
 
 
+def unlike(j, k):
+    return [7, j, k]
+
+
+def first(j, k):
+    return [8, j, k]
+
+
+def roots(j, k):
+    return [9, j, k]
+
+
+def why(j, k, name):
+    return [10, j, k] + row(name)
+
+
+def steady(j, k):
+    return [11, j, k]
+
+
+def in_order(k):
+    """The call that the document calls sorted."""
+    return [12, k]
+
+
+def drop(k, name):
+    return [13, k] + row(name)
+
+
+def lines(*names):
+    """How many there are, and these in lines."""
+    return [len(names)] + raw("".join(name + "\n" for name in names))
+
+
 def ask(*calls):
     """The answers to these calls on one new object, a list each."""
     given = answers([number for call in calls for number in call])
@@ -78,6 +119,11 @@ def ask(*calls):
 
 def ask_last(*calls):
     return ask(*calls)[-1]
+
+
+def compare(first_text, second_text, call, *more):
+    """What this call answers of these two logs."""
+    return ask_last(read(0, first_text), read(1, second_text), call(0, 1, *more))
 
 
 def record(name, rows="", way="run", tool="t", status=0):

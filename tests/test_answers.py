@@ -4,7 +4,53 @@ import unittest
 
 from buildlogs.logs import answers
 from tests.support import (
-    EMPTY, EXAMPLE, FAULTY_LOG, NONE, SLOT, ask, fault, log, made, plain, raw, read, record, rests, stats, where,
+    ABSENT, ALIKE, EMPTY, EXAMPLE, FAULTY, FAULTY_LOG, NAME, NONE, OTHER_EXAMPLE, SLOT, ask, drop, fault, first,
+    in_order, lines, log, made, plain, raw, read, record, rests, roots, stats, steady, unlike, where, why,
+)
+
+PLAIN_EXAMPLE = (
+    "run c {\n  tool cc;\n  in s 1;\n  out o 5;\n  exit 0;\n}\n"
+    "run l {\n  tool ld;\n  in o 5;\n  out p 9;\n  exit 0;\n}\n"
+    "end 2;\n"
+)
+
+# All fourteen calls, and what each of them answers.
+MIXED = (
+    (unlike(0, 1), NONE),
+    (read(0, EXAMPLE), [2]),
+    (steady(0, 1), NONE),
+    (read(1, OTHER_EXAMPLE), [2]),
+    (unlike(0, 1), lines("c: input", "l: input")),
+    (where("end x"), [4, 4]),
+    (first(0, 1), [4, 1] + raw("cs")),
+    (roots(0, 1), lines("c")),
+    (why(0, 1, "l"), lines("l", "c")),
+    (made(0, "o"), [0, 5, ord("c")]),
+    (why(0, 1, "o"), ABSENT),
+    (steady(0, 1), [1]),
+    (in_order(0), [0] + raw(PLAIN_EXAMPLE)),
+    (drop(0, "run"), NAME),
+    (plain(0), [0] + raw(PLAIN_EXAMPLE)),
+    (rests(0, "p"), lines("s")),
+    (drop(0, "c"), [1]),
+    (made(0, "o"), [1, 5]),
+    (rests(0, "p"), lines("o")),
+    (stats(0), [1, 1, 0, 0, 1]),
+    (unlike(0, 1), lines("l: input", "c: only second")),
+    (first(0, 1), [4, 1] + raw("lo")),
+    (roots(0, 1), lines("l", "c")),
+    (why(0, 1, "l"), lines("l")),
+    (why(1, 0, "l"), lines("l", "c")),
+    (read(2, FAULTY_LOG), [2]),
+    (fault(2), [5, ord("a")]),
+    (drop(2, "a"), FAULTY),
+    (roots(2, 4), SLOT),
+    (why(1, 1, "c"), ALIKE),
+    (fault(0), [0]),
+    (drop(0, "l"), [0]),
+    (plain(0), [0] + raw("end 0;\n")),
+    (first(0, 1), [2, 1] + raw("c")),
+    (in_order(0), [0] + raw("end 0;\n")),
 )
 
 
@@ -33,8 +79,53 @@ class Answers(unittest.TestCase):
         self.assertEqual(answers([1, 6] + raw(EMPTY)), [2, 0, 0])
         for number in (2, 3, 4):
             self.assertEqual(answers([number, 3]), [1, -2])
-        for number in (5, 6):
+        for number in (5, 6, 13):
             self.assertEqual(answers([number, 3, 1, 97]), [1, -2])
+        for number in (7, 8, 9, 11):
+            self.assertEqual(answers([number, 3, 3]), [1, -2])
+        self.assertEqual(answers([10, 3, 3, 1, 97]), [1, -2])
+        self.assertEqual(answers([12, 3]), [1, -2])
+
+    def test_each_call_of_two_logs_by_its_number(self):
+        one = raw("run a { tool t; exit 0; } end 1;")
+        other = raw("run a { tool t; exit 1; } end 1;")
+        reads = [0, 0, len(one)] + one + [0, 1, len(other)] + other
+        for call, answer in (
+            ([7, 0, 1], [1] + raw("a: exit\n")),
+            ([8, 0, 1], [6, 1, 97]),
+            ([9, 0, 1], [1, 97, 10]),
+            ([10, 0, 1, 1, 97], [1, 97, 10]),
+            ([11, 0, 1], [0]),
+            ([12, 1], [0] + raw("run a {\n  tool t;\n  exit 1;\n}\nend 1;\n")),
+            ([13, 1, 1, 97], [0]),
+        ):
+            self.assertEqual(answers(reads + call), [1, 1, 1, 1, len(answer)] + answer)
+
+    def test_all_fourteen_calls_mixed(self):
+        self.assertEqual({call[0] for call, answer in MIXED}, set(range(14)))
+        for i in range(len(MIXED)):
+            calls = [call for call, answer in MIXED[:i + 1]]
+            self.assertEqual(ask(*calls), [answer for call, answer in MIXED[:i + 1]])
+
+    def test_a_mixed_list_is_unchanged_and_answered_the_same_again(self):
+        calls = [number for call, answer in MIXED for number in call]
+        before = list(calls)
+        given = answers(calls)
+        self.assertEqual(calls, before)
+        self.assertEqual(answers(calls), given)
+        self.assertEqual(answers(list(before)), given)
+        self.assertIs(type(given), list)
+        self.assertEqual({type(number) for number in given}, {int})
+        self.assertEqual({type(number) for number in calls}, {int})
+
+    def test_the_largest_list_of_calls(self):
+        one = log(*[record(f"a{i}", f"in s{i} 1; out f{i} 1;") for i in range(32)])
+        other = one.replace(" 1;", " 2;")
+        comparisons = [unlike(0, 1), first(0, 1), roots(0, 1), why(0, 1, "a31"), steady(0, 1), in_order(0)] * 13
+        given = ask(read(0, one), read(1, other), *comparisons)
+        self.assertEqual(len(given), 80)
+        self.assertEqual(given[2:8] * 13, given[2:])
+        self.assertEqual([answer[0] for answer in given[2:8]], [32, 4, 32, 1, 1, 0])
 
     def test_calls_on_one_object_see_what_earlier_calls_left(self):
         self.assertEqual(

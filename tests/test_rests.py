@@ -3,17 +3,13 @@
 import unittest
 
 from tests.support import (
-    ABSENT, EMPTY, EXAMPLE, FAULTY, FAULTY_LOG, HUGE, NAME, NONE, SLOT, ask, ask_last, log, plain, raw, read, record,
+    ABSENT, EMPTY, EXAMPLE, FAULTY, FAULTY_LOG, HUGE, NAME, NONE, SLOT, ask, ask_last, lines, log, plain, read, record,
     rests,
 )
 
 
 def rested(text, file):
     return ask_last(read(0, text), rests(0, file))
-
-
-def lines(*names):
-    return [len(names)] + raw("".join(name + "\n" for name in names))
 
 
 class Rests(unittest.TestCase):
